@@ -1,0 +1,74 @@
+package record
+
+import (
+	"ledge/api"
+	"ledge/sums"
+)
+
+const (
+	blockFront = 3 // how many entries, and how many bytes these are
+	entryFront = 3 // the kind, and how many bytes key and value have
+)
+
+// Entry is a put of an item, or a delete of its key.
+type Entry struct {
+	Put  bool
+	Item api.Item
+}
+
+// Block is a block's entries, and how many bytes it has in all.
+type Block struct {
+	Entries []Entry
+	Size    int
+}
+
+// ReadBlock reads the block that begins at this byte of a log whose head is c.
+// What is ahead of it and behind it is not looked at.
+func ReadBlock(log string, c api.Config, at int) (Block, bool) {
+	if at < HeadSize || at > len(log)-blockFront {
+		return Block{}, false
+	}
+	count, size := int(log[at]), sums.Low(log[at+1:at+blockFront])
+	end := at + blockFront + size
+	if count == 0 || count > 1 && size > c.Block || end > len(log)-sums.CheckSize {
+		return Block{}, false
+	}
+	// The entries come ahead of the check: a length that lies is found out by
+	// them after a few bytes, however long it is.
+	entries, ok := readEntries(log[at+blockFront:end], count)
+	end += sums.CheckSize
+	if !ok || !sums.Holds(log[at:end]) {
+		return Block{}, false
+	}
+	return Block{Entries: entries, Size: end - at}, true
+}
+
+// readEntries reads so many entries, which must have all bytes of s.
+func readEntries(s string, count int) ([]Entry, bool) {
+	entries := make([]Entry, 0, count)
+	for range count {
+		e, rest, ok := readEntry(s)
+		if !ok {
+			return nil, false
+		}
+		entries, s = append(entries, e), rest
+	}
+	return entries, s == ""
+}
+
+// readEntry reads the entry that s begins with, and tells what is behind it.
+func readEntry(s string) (Entry, string, bool) {
+	if len(s) < entryFront || s[0] != 'p' && s[0] != 'd' {
+		return Entry{}, "", false
+	}
+	put, key, value := s[0] == 'p', int(s[1]), int(s[2])
+	s = s[entryFront:]
+	if len(s) < key+value || !put && value != 0 {
+		return Entry{}, "", false
+	}
+	e := Entry{Put: put, Item: api.Item{Key: s[:key], Value: s[key : key+value]}}
+	if !IsKey(e.Item.Key) || !IsValue(e.Item.Value) {
+		return Entry{}, "", false
+	}
+	return e, s[key+value:], true
+}
