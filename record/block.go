@@ -8,12 +8,32 @@ import (
 const (
 	blockFront = 3 // how many entries, and how many bytes these are
 	entryFront = 3 // the kind, and how many bytes key and value have
+
+	kindPut    = 'p'
+	kindDelete = 'd'
 )
 
 // Entry is a put of an item, or a delete of its key.
 type Entry struct {
 	Put  bool
 	Item api.Item
+}
+
+// IsRight tells whether key and value may be such.
+func (e Entry) IsRight() bool { return IsKey(e.Item.Key) && IsValue(e.Item.Value) }
+
+// size tells how many bytes an entry has.
+func (e Entry) size() int { return entryFront + len(e.Item.Key) + len(e.Item.Value) }
+
+// appendTo appends an entry's bytes.
+func (e Entry) appendTo(b []byte) []byte {
+	kind := byte(kindDelete)
+	if e.Put {
+		kind = kindPut
+	}
+	b = append(b, kind, byte(len(e.Item.Key)), byte(len(e.Item.Value)))
+	b = append(b, e.Item.Key...)
+	return append(b, e.Item.Value...)
 }
 
 // Block is a block's entries, and how many bytes it has in all.
@@ -58,16 +78,16 @@ func readEntries(s string, count int) ([]Entry, bool) {
 
 // readEntry reads the entry that s begins with, and tells what is behind it.
 func readEntry(s string) (Entry, string, bool) {
-	if len(s) < entryFront || s[0] != 'p' && s[0] != 'd' {
+	if len(s) < entryFront || s[0] != kindPut && s[0] != kindDelete {
 		return Entry{}, "", false
 	}
-	put, key, value := s[0] == 'p', int(s[1]), int(s[2])
+	put, key, value := s[0] == kindPut, int(s[1]), int(s[2])
 	s = s[entryFront:]
 	if len(s) < key+value || !put && value != 0 {
 		return Entry{}, "", false
 	}
 	e := Entry{Put: put, Item: api.Item{Key: s[:key], Value: s[key : key+value]}}
-	if !IsKey(e.Item.Key) || !IsValue(e.Item.Value) {
+	if !e.IsRight() {
 		return Entry{}, "", false
 	}
 	return e, s[key+value:], true

@@ -33,6 +33,15 @@ func IsConfig(c api.Config) bool {
 	return 1 <= c.Block && c.Block <= api.MaxBlock && IsSeed(c.Seed) && IsBits(c.Bits)
 }
 
+// Head tells the head that says this.
+func Head(c api.Config) []byte {
+	b := []byte(headMark)
+	b = sums.AppendLow(b, c.Block, 2)
+	b = sums.AppendLow(b, c.Seed, seedSize)
+	b = sums.AppendLow(b, c.Bits, 2)
+	return sums.Seal(b)
+}
+
 // ReadHead reads the head that a log begins with.
 func ReadHead(log string) (api.Config, bool) {
 	if len(log) < HeadSize || log[:2] != headMark || !sums.Holds(log[:HeadSize]) {

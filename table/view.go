@@ -32,6 +32,18 @@ func Open(log, index string) (View, api.Errno) {
 	return View{log: log, head: head, front: f, body: body}, api.OK
 }
 
+// Said tells what a log says, if the index is the log's to its last byte.
+func Said(log, index string) (record.Said, api.Errno) {
+	if _, e := Open(log, index); e != api.OK {
+		return record.Said{}, e
+	}
+	said, ok := record.Read(log)
+	if !ok || Make(log, said) != index {
+		return record.Said{}, api.ErrForm
+	}
+	return said, api.OK
+}
+
 // Look tells a key's value, and how many slots were looked at.
 func (v View) Look(key string) (string, int, api.Errno) {
 	number := record.Number(v.head, key)
