@@ -2,15 +2,25 @@ package disk
 
 import (
 	"errors"
+	"strings"
 	"testing"
 )
 
 func wantBytes(t *testing.T, d *Disk, name, want string, synced int) {
 	t.Helper()
 	b, err := d.Read(name)
-	if b != want || err != nil || !d.Has(name) || d.files[name].synced != synced {
+	if b != want || err != nil || !has(t, d, name) || d.files[name].synced != synced {
 		t.Errorf("Read(%q) = %q, %v, want %q, of which %d are synced", name, b, err, want, synced)
 	}
+}
+
+func has(t *testing.T, d *Disk, name string) bool {
+	t.Helper()
+	there, err := d.Has(name)
+	if err != nil {
+		t.Errorf("Has(%q) = %v", name, err)
+	}
+	return there
 }
 
 func wantDone(t *testing.T, d *Disk, steps ...Step) {
@@ -28,14 +38,14 @@ func wantFault(t *testing.T, err error, step, file string, cause error) {
 		t.Errorf("the error is %v, want one of %s %s: %v", err, step, file, cause)
 		return
 	}
-	if want := step + " " + file + ": " + cause.Error(); err.Error() != want {
+	if want := strings.TrimSpace(step+" "+file) + ": " + cause.Error(); err.Error() != want {
 		t.Errorf("the error tells %q, want %q", err.Error(), want)
 	}
 }
 
 func TestSteps(t *testing.T) {
 	d := New(10)
-	if d.Has("a") {
+	if has(t, d, "a") {
 		t.Error("a new disk has a file")
 	}
 	wantDone(t, d, Make("a"))
@@ -46,11 +56,25 @@ func TestSteps(t *testing.T) {
 	wantBytes(t, d, "a", "123456", 5)
 	wantDone(t, d, Make("b"), Append("b", []byte("x")), Rename("a", "b"))
 	wantBytes(t, d, "b", "123456", 5)
-	if d.Has("a") {
+	if has(t, d, "a") {
 		t.Error("a file that was renamed has its old name")
 	}
-	wantDone(t, d, Make("b"))
+	wantDone(t, d, Cut("b", 6))
+	wantBytes(t, d, "b", "123456", 5)
+	wantDone(t, d, Cut("b", 7))
+	wantBytes(t, d, "b", "123456", 5)
+	wantDone(t, d, Append("b", []byte("789")), Cut("b", 7))
+	wantBytes(t, d, "b", "1234567", 5)
+	wantDone(t, d, Cut("b", 2), Append("b", []byte("x")))
+	wantBytes(t, d, "b", "12x", 2)
+	wantDone(t, d, Cut("b", 0))
 	wantBytes(t, d, "b", "", 0)
+	wantDone(t, d, Append("b", []byte("1")), Make("b"))
+	wantBytes(t, d, "b", "", 0)
+	wantDone(t, d, Make("a"), Remove("b"))
+	if has(t, d, "b") || !has(t, d, "a") {
+		t.Error("a file was not taken away, or another one was")
+	}
 }
 
 // The room is that of all files; what is lost gives its room back.
@@ -64,6 +88,10 @@ func TestRoom(t *testing.T) {
 	wantDone(t, d, Make("b"), Append("b", []byte("56789")))
 	wantDone(t, d, Rename("a", "b"), Append("b", []byte("abcde")))
 	wantBytes(t, d, "b", "1234xabcde", 0)
+	wantDone(t, d, Cut("b", 4), Make("a"), Append("a", []byte("abcdef")))
+	wantFault(t, d.Do(Append("b", []byte("5"))), "append", "b", ErrRoom)
+	wantDone(t, d, Remove("a"), Append("b", []byte("567890")))
+	wantBytes(t, d, "b", "1234567890", 0)
 
 	none := New(0)
 	wantDone(t, none, Make("a"), Append("a", nil), Sync("a"))
@@ -77,7 +105,7 @@ func TestDoEndsAtAFault(t *testing.T) {
 	err := d.Do(Make("a"), Append("a", []byte("123")), Append("a", []byte("4")), Sync("a"), Rename("a", "b"))
 	wantFault(t, err, "append", "a", ErrRoom)
 	wantBytes(t, d, "a", "123", 0)
-	if d.Has("b") {
+	if has(t, d, "b") {
 		t.Error("a step behind the fault was taken")
 	}
 }
@@ -90,7 +118,9 @@ func TestNoFile(t *testing.T) {
 	wantFault(t, d.Do(Append("a", nil)), "append", "a", ErrNoFile)
 	wantFault(t, d.Do(Sync("a")), "sync", "a", ErrNoFile)
 	wantFault(t, d.Do(Rename("a", "other")), "rename", "a", ErrNoFile)
-	if d.Has("a") || !d.Has("other") {
+	wantFault(t, d.Do(Cut("a", 0)), "cut", "a", ErrNoFile)
+	wantFault(t, d.Do(Remove("a")), "remove", "a", ErrNoFile)
+	if has(t, d, "a") || !has(t, d, "other") {
 		t.Error("a step on no file changed something")
 	}
 }

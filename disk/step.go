@@ -10,11 +10,19 @@ type Step struct {
 // Do takes the steps, one behind the other, up to the first that fails.
 func (d *Disk) Do(steps ...Step) error {
 	for _, s := range steps {
-		if err := s.take(d); err != nil {
+		if err := d.do(s); err != nil {
 			return &Fault{Step: s.name, File: s.file, Err: err}
 		}
 	}
 	return nil
+}
+
+// do takes one step, which is counted even if it finds no room.
+func (d *Disk) do(s Step) error {
+	if err := d.count(); err != nil {
+		return err
+	}
+	return s.take(d)
 }
 
 // Make makes a file that has no bytes; what had the name is lost.
@@ -36,10 +44,18 @@ func Append(name string, bytes []byte) Step {
 	})
 }
 
+// Cut cuts a file behind so many bytes; that lasts at once.
+func Cut(name string, size int) Step {
+	return onFile("cut", name, func(_ *Disk, f *file) error {
+		f.cut(size)
+		return nil
+	})
+}
+
 // Sync syncs all bytes of a file.
 func Sync(name string) Step {
 	return onFile("sync", name, func(_ *Disk, f *file) error {
-		f.synced = len(f.bytes)
+		f.sync()
 		return nil
 	})
 }
@@ -49,6 +65,14 @@ func Rename(name, to string) Step {
 	return onFile("rename", name, func(d *Disk, f *file) error {
 		delete(d.files, name)
 		d.files[to] = f
+		return nil
+	})
+}
+
+// Remove takes a file away.
+func Remove(name string) Step {
+	return onFile("remove", name, func(d *Disk, _ *file) error {
+		delete(d.files, name)
 		return nil
 	})
 }

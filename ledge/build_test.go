@@ -38,9 +38,7 @@ func TestP7Build(t *testing.T) {
 	wantBuild(t, s)
 	wantFile(t, s, "log", log)
 	wantFile(t, s, "index", want)
-	wantSynced(t, s, "index", len(want))
 	wantNoFile(t, s, "new")
-	wantSynced(t, s, "log", 14)
 	wantGet(t, s, "a", "x", api.OK)
 	wantGet(t, s, "b", "y", api.OK)
 	wantGet(t, s, "c", "", api.ErrNone)
@@ -55,7 +53,20 @@ func TestP7Build(t *testing.T) {
 	wantFile(t, s, "log", log)
 	wantFile(t, s, "index", want)
 	wantBuild(t, s)
-	wantFile(t, s, "index", index(log, 3, 2, slot(0, 14, 0), slot(0, 14, 1), slot(0, second, 0), empty))
+	want = index(log, 3, 2, slot(0, 14, 0), slot(0, 14, 1), slot(0, second, 0), empty)
+	wantFile(t, s, "index", want)
+	wantSynced(t, s, "index", want)
+}
+
+// P7: Build syncs the index, not the log.
+func TestP7BuildSyncs(t *testing.T) {
+	s := created(t, 1000, api.Config{Block: 4})
+	wantPut(t, s, "a", "")
+	wantPut(t, s, "b", "")
+	wantBuild(t, s)
+	ix, _ := s.File("index")
+	wantSynced(t, s, "log", head(4, 0, 0))
+	wantFile(t, s, "index", ix)
 }
 
 // P7: the log, the old index and the new one must have room at one time; if
@@ -76,7 +87,6 @@ func TestP7NoRoom(t *testing.T) {
 			continue
 		}
 		wantFile(t, s, "new", "")
-		wantSynced(t, s, "new", 0)
 		wantNoFile(t, s, "index")
 		wantGet(t, s, "a", "", api.ErrNone)
 	}

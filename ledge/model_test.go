@@ -72,6 +72,31 @@ func modelBlock(s string, most int) (entries []modelEntry, size int) {
 	return entries, 7 + bytes
 }
 
+// modelWhole: a log up to where no right block begins any more.
+func modelWhole(log string) string {
+	most, _, _, _ := modelHead(log)
+	at := 14
+	for {
+		_, size := modelBlock(log[at:], most)
+		if size == 0 {
+			return log[:at]
+		}
+		at += size
+	}
+}
+
+// modelEntries: all entries of a log, from the first on.
+func modelEntries(log string) []modelEntry {
+	most, _, _, _ := modelHead(log)
+	var all []modelEntry
+	for rest := modelWhole(log)[14:]; rest != ""; {
+		entries, size := modelBlock(rest, most)
+		all = append(all, entries...)
+		rest = rest[size:]
+	}
+	return all
+}
+
 // modelLive: the live keys with their places.
 func modelLive(log string) (map[string]modelPlace, bool) {
 	most, _, _, ok := modelHead(log)

@@ -34,15 +34,33 @@ func (s *Store) Create(c api.Config) api.Errno {
 	if !record.IsConfig(c) {
 		return api.ErrArg
 	}
-	if s.disk.Has(fileLog) {
+	there, err := s.disk.Has(fileLog)
+	if err != nil {
+		return answer(err)
+	}
+	if there {
 		return api.ErrThere
 	}
-	err := s.disk.Do(disk.Make(fileLog), disk.Append(fileLog, record.Head(c)), disk.Sync(fileLog))
-	if err != nil {
+	return s.open(c, disk.Make(fileLog), disk.Append(fileLog, record.Head(c)), disk.Sync(fileLog))
+}
+
+// open takes the steps behind which a log whose head is c is open.
+func (s *Store) open(c api.Config, steps ...disk.Step) api.Errno {
+	if err := s.do(steps...); err != nil {
 		return answer(err)
 	}
 	s.waiting = record.NewWaiting(c)
 	return api.OK
+}
+
+// do takes steps. Where power fails no log is open any more, and what waited is
+// lost.
+func (s *Store) do(steps ...disk.Step) error {
+	err := s.disk.Do(steps...)
+	if errors.Is(err, disk.ErrPower) {
+		s.waiting = nil
+	}
+	return err
 }
 
 // Put gives a key a value (P6).
@@ -60,8 +78,8 @@ func (s *Store) add(e record.Entry) api.Errno {
 	if !e.IsRight() {
 		return api.ErrArg
 	}
-	if s.waiting == nil {
-		return api.ErrNone
+	if no := s.refusal(); no != api.OK {
+		return no
 	}
 	if !s.waiting.Takes(e) {
 		if err := s.write(); err != nil {
@@ -72,9 +90,21 @@ func (s *Store) add(e record.Entry) api.Errno {
 	return api.OK
 }
 
-// write appends what waits as a block. If that fails, it waits on.
+// refusal tells why nothing can be written: a disk that is down comes ahead of
+// a log that is not open.
+func (s *Store) refusal() api.Errno {
+	if _, err := s.disk.Has(fileLog); err != nil {
+		return answer(err)
+	}
+	if s.waiting == nil {
+		return api.ErrNone
+	}
+	return api.OK
+}
+
+// write appends what waits as a block. Without room for it, it waits on.
 func (s *Store) write() error {
-	if err := s.disk.Do(disk.Append(fileLog, s.waiting.Block())); err != nil {
+	if err := s.do(disk.Append(fileLog, s.waiting.Block())); err != nil {
 		return err
 	}
 	s.waiting.Clear()
@@ -83,15 +113,15 @@ func (s *Store) write() error {
 
 // Flush writes what waits, and syncs (P6).
 func (s *Store) Flush() api.Errno {
-	if s.waiting == nil {
-		return api.ErrNone
+	if no := s.refusal(); no != api.OK {
+		return no
 	}
 	if s.waiting.Any() {
 		if err := s.write(); err != nil {
 			return answer(err)
 		}
 	}
-	return answer(s.disk.Do(disk.Sync(fileLog)))
+	return answer(s.do(disk.Sync(fileLog)))
 }
 
 // Build makes the index (P7).
@@ -104,7 +134,7 @@ func (s *Store) Build() api.Errno {
 	if e != api.OK {
 		return e
 	}
-	return answer(s.disk.Do(
+	return answer(s.do(
 		disk.Make(fileNew),
 		disk.Append(fileNew, []byte(index)),
 		disk.Sync(fileNew),
@@ -161,15 +191,6 @@ func (s *Store) read() (log, index string, err error) {
 	return log, index, nil
 }
 
-// Fail lets power fail (P8).
-func (s *Store) Fail(steps, keep int) api.Errno { return api.OK }
-
-// Start starts the disk again (P8).
-func (s *Store) Start() api.Errno { return api.OK }
-
-// Mend cuts the log behind its last whole block, and opens it (P8).
-func (s *Store) Mend() api.Errno { return api.OK }
-
 // File tells a file's bytes (P8).
 func (s *Store) File(name string) (string, api.Errno) {
 	bytes, err := s.disk.Read(name)
@@ -185,6 +206,12 @@ func answer(err error) api.Errno {
 		return api.OK
 	case errors.Is(fault, disk.ErrRoom):
 		return api.ErrRoom
+	case errors.Is(fault, disk.ErrDown):
+		return api.ErrDown
+	case errors.Is(fault, disk.ErrPower):
+		return api.ErrPower
+	case errors.Is(fault, disk.ErrUp):
+		return api.ErrArg
 	}
 	return api.ErrNone // the file is not there
 }

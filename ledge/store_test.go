@@ -1,7 +1,6 @@
 package ledge_test
 
 import (
-	"reflect"
 	"testing"
 
 	"ledge/api"
@@ -77,13 +76,10 @@ func wantGet(t *testing.T, s *ledge.Store, key, value string, want api.Errno) {
 	}
 }
 
-// wantSynced: no call tells what is synced as long as power does not fail: it
-// is read where the program keeps it.
-func wantSynced(t *testing.T, s *ledge.Store, name string, want int) {
+// wantSynced: what is left of a file, if power fails and nothing is kept that
+// was not synced. No log is open behind that.
+func wantSynced(t *testing.T, s *ledge.Store, name, want string) {
 	t.Helper()
-	files := reflect.ValueOf(s).Elem().FieldByName("disk").Elem().FieldByName("files")
-	f := files.MapIndex(reflect.ValueOf(name))
-	if n := f.Elem().FieldByName("synced").Int(); int(n) != want {
-		t.Errorf("%d bytes of %q are synced, want %d", n, name, want)
-	}
+	lost(t, s, 0)
+	wantFile(t, s, name, want)
 }

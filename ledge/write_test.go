@@ -183,20 +183,28 @@ func TestP6WaitsOn(t *testing.T) {
 func TestP6Synced(t *testing.T) {
 	h, one := head(4, 0, 0), block(del("a"))
 	s := created(t, len(h+one)+10, api.Config{Block: 4})
-	wantSynced(t, s, "log", len(h))
 	wantDelete(t, s, "a")
-	wantDelete(t, s, "b") // writes the first, but does not sync it
+	wantDelete(t, s, "a")
 	wantFile(t, s, "log", h+one)
-	wantSynced(t, s, "log", len(h))
 	wantAnswer(t, "Flush without room", s.Flush(), api.ErrRoom) // ends ahead of the sync
-	wantSynced(t, s, "log", len(h))
+	wantSynced(t, s, "log", h)
 
-	s = created(t, 1000, api.Config{Block: 4})
-	wantDelete(t, s, "a")
-	wantFlush(t, s)
-	wantSynced(t, s, "log", len(h+one))
-	wantDelete(t, s, "a")
-	wantDelete(t, s, "a")
-	wantFlush(t, s)
-	wantSynced(t, s, "log", len(h+one+one+one))
+	for entries := range 4 {
+		s := created(t, 1000, api.Config{Block: 4})
+		log := h
+		for range entries {
+			wantDelete(t, s, "a")
+			wantFlush(t, s)
+			log += one
+		}
+		wantDelete(t, s, "a")
+		wantDelete(t, s, "a") // writes the first, but does not sync it
+		wantFile(t, s, "log", log+one)
+		wantSynced(t, s, "log", log)
+		wantMend(t, s)
+		wantDelete(t, s, "a")
+		wantDelete(t, s, "a")
+		wantFlush(t, s)
+		wantSynced(t, s, "log", log+one+one)
+	}
 }

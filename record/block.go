@@ -1,6 +1,8 @@
 package record
 
 import (
+	"iter"
+
 	"ledge/api"
 	"ledge/sums"
 )
@@ -61,6 +63,30 @@ func ReadBlock(log string, c api.Config, at int) (Block, bool) {
 		return Block{}, false
 	}
 	return Block{Entries: entries, Size: end - at}, true
+}
+
+// blocks goes through the blocks of a log whose head is c, from the first on,
+// up to where no right one begins; beside each it tells where that begins.
+func blocks(log string, c api.Config) iter.Seq2[int, Block] {
+	return func(yield func(int, Block) bool) {
+		for at := HeadSize; ; {
+			b, ok := ReadBlock(log, c, at)
+			if !ok || !yield(at, b) {
+				return
+			}
+			at += b.Size
+		}
+	}
+}
+
+// Whole tells what a log whose head is c has up to its last whole block, of
+// those from the first on that are right.
+func Whole(log string, c api.Config) string {
+	end := HeadSize
+	for at, b := range blocks(log, c) {
+		end = at + b.Size
+	}
+	return log[:end]
 }
 
 // readEntries reads so many entries, which must have all bytes of s.

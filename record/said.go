@@ -36,18 +36,15 @@ func Read(log string) (Said, bool) {
 		return Said{}, false
 	}
 	s := Said{Head: head, items: map[Place]api.Item{}, places: map[string]Place{}}
-	for at := HeadSize; at < len(log); {
-		b, ok := ReadBlock(log, head, at)
-		if !ok {
-			return Said{}, false
-		}
+	end := HeadSize
+	for at, b := range blocks(log, head) {
 		for i, e := range b.Entries {
 			s.take(e, Place{Block: at, Entry: i})
 		}
-		at += b.Size
+		end = at + b.Size
 	}
 	// Only the end counts: keys that were deleted again are not live.
-	if len(s.items) > api.MaxLive {
+	if end != len(log) || len(s.items) > api.MaxLive {
 		return Said{}, false
 	}
 	return s, true
